@@ -1,0 +1,1 @@
+"""Linkbooks: schemes of heaps, each decided for all heaps."""

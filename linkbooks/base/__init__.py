@@ -1,0 +1,1 @@
+"""What books are made of: words, kinds and ranks."""

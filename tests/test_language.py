@@ -1,0 +1,132 @@
+"""The rules of ../shared/LANGUAGE.md that a look at the files can tell; the others need a reader."""
+
+import ast
+import builtins
+import pathlib
+import re
+import unittest
+
+TOP = pathlib.Path(__file__).resolve().parent.parent
+PACKAGE = TOP / "linkbooks"
+LIBRARY = {
+    "heapq": ("heappush", "heappop", "heapify", "heapreplace", "heappushpop"),
+    "math": ("gcd", "lcm", "isqrt", "comb", "perm", "factorial"),
+    "itertools": ("product", "combinations", "permutations"),
+}
+BUILTINS = """len range enumerate zip min max sum abs sorted reversed int str bool bytes list tuple dict set frozenset
+isinstance ord repr any all divmod iter next map super property staticmethod classmethod Exception ValueError TypeError
+KeyError IndexError LookupError ZeroDivisionError ArithmeticError OverflowError RuntimeError NotImplementedError
+AttributeError StopIteration NotImplemented""".split()
+BARRED = """typing typing_extensions enum Enum IntEnum StrEnum Flag IntFlag Generic Protocol ABC ABCMeta namedtuple
+NamedTuple TypedDict TYPE_CHECKING abstractmethod""".split()
+NEVER = "register mro elements open input law version_info with_traceback add_note".split()
+MODULE_LEVEL = (ast.ImportFrom, ast.FunctionDef, ast.ClassDef, ast.Assign)
+
+
+def files():
+    return sorted(PACKAGE.rglob("*.py"))
+
+
+def trees():
+    return [(path, ast.parse(path.read_text())) for path in files()]
+
+
+def file_of(dotted):
+    path = TOP.joinpath(*dotted.split("."))
+    return path / "__init__.py" if path.is_dir() else path.with_suffix(".py")
+
+
+def bound(tree):
+    """The names that a file binds at its top, but for imports."""
+    names = [node.name for node in tree.body if isinstance(node, (ast.FunctionDef, ast.ClassDef))]
+    return names + [node.targets[0].id for node in tree.body if isinstance(node, ast.Assign)]
+
+
+def is_docstring(node):
+    return isinstance(node, ast.Expr) and isinstance(node.value, ast.Constant) and isinstance(node.value.value, str)
+
+
+class LanguageTest(unittest.TestCase):
+    def test_files(self):
+        for path in PACKAGE.rglob("*"):
+            if "__pycache__" not in path.parts:
+                self.assertTrue(path.is_dir() or re.fullmatch(r"[a-z][a-z0-9_]*\.py|__(init|main)__\.py", path.name), path)
+                self.assertTrue(path.is_file() or (path / "__init__.py").exists(), path)
+
+    def test_sizes_and_signs(self):
+        for path in files():
+            lines = path.read_text().split("\n")
+            self.assertLessEqual(len(lines) - 1, 399, path)
+            for line in lines:
+                self.assertTrue(len(line) <= 120 and re.fullmatch("[ -~]*", line), (path, line))
+
+    def test_functions_are_small(self):
+        for path, tree in trees():
+            for node in ast.walk(tree):
+                if isinstance(node, ast.FunctionDef):
+                    self.assertLessEqual(node.end_lineno - node.lineno + 1, 40, (path, node.name))
+
+    def test_module_level(self):
+        for path, tree in trees():
+            names = bound(tree)
+            for node in tree.body:
+                if isinstance(node, ast.ImportFrom):
+                    names.extend(alias.asname or alias.name for alias in node.names)
+                self.assertTrue(is_docstring(node) or isinstance(node, MODULE_LEVEL), (path, ast.dump(node)))
+            self.assertEqual(len(names), len(set(names)), path)
+
+    def test_imports_name_the_file_that_defines(self):
+        for path, tree in trees():
+            for node in [node for node in ast.walk(tree) if isinstance(node, (ast.Import, ast.ImportFrom))]:
+                self.assertIsInstance(node, ast.ImportFrom, path)
+                self.assertEqual(node.level, 0, path)
+                known = LIBRARY.get(node.module)
+                if known is None:
+                    self.assertTrue(node.module.startswith("linkbooks."), path)
+                    known = bound(ast.parse(file_of(node.module).read_text()))
+                for alias in node.names:
+                    self.assertIn(alias.name, known, path)
+
+    def test_no_files_import_from_each_other(self):
+        wanted = {}
+        for path, tree in trees():
+            modules = [node.module for node in tree.body if isinstance(node, ast.ImportFrom)]
+            wanted[path] = [file_of(module) for module in modules if module.startswith("linkbooks.")]
+        while wanted:
+            ready = [path for path in wanted if not any(other in wanted for other in wanted[path])]
+            self.assertTrue(ready, sorted(wanted))
+            wanted = {path: wanted[path] for path in wanted if path not in ready}
+
+    def test_builtins_and_names(self):
+        for path, tree in trees():
+            for node in ast.walk(tree):
+                if isinstance(node, ast.Name) and hasattr(builtins, node.id):
+                    self.assertIn(node.id, BUILTINS, path)
+                    self.assertIsInstance(node.ctx, ast.Load, (path, node.id))
+                if isinstance(node, (ast.arg, ast.Name, ast.Attribute, ast.FunctionDef)):
+                    name = getattr(node, "arg", None) or getattr(node, "id", None)
+                    name = name or getattr(node, "attr", None) or node.name
+                    self.assertNotIn(name, NEVER, path)
+                if isinstance(node, ast.arg):
+                    self.assertFalse(hasattr(builtins, node.arg), (path, node.arg))
+
+    def test_statements_and_values(self):
+        barred = (ast.Global, ast.AsyncFunctionDef, ast.Await, ast.AsyncFor, ast.AsyncWith, ast.Div)
+        for path, tree in trees():
+            for node in ast.walk(tree):
+                self.assertNotIsInstance(node, barred, path)
+                if isinstance(node, ast.Constant):
+                    self.assertNotIsInstance(node.value, (float, complex), path)
+                    if isinstance(node.value, str):
+                        self.assertNotIn("%", node.value, path)
+                if isinstance(node, ast.ClassDef):
+                    self.assertEqual(node.decorator_list, [], (path, node.name))
+
+    def test_words_that_do_not_occur(self):
+        for path, tree in trees():
+            for node in ast.walk(tree):
+                if hasattr(node, "body") and isinstance(node.body, list) and node.body and is_docstring(node.body[0]):
+                    node.body[0].value = ast.Constant("")
+            words = re.findall(r"\w+", ast.unparse(tree))
+            for word in (*BARRED, "type"):
+                self.assertNotIn(word, words, path)
