@@ -20,6 +20,9 @@ AttributeError StopIteration NotImplemented""".split()
 BARRED = """typing typing_extensions enum Enum IntEnum StrEnum Flag IntFlag Generic Protocol ABC ABCMeta namedtuple
 NamedTuple TypedDict TYPE_CHECKING abstractmethod""".split()
 NEVER = "register mro elements open input law version_info with_traceback add_note".split()
+METHODS = """append clear copy count endswith extend find get index insert isalnum isalpha isdigit islower isspace isupper items
+join keys ljust lower lstrip partition pop remove replace reverse rfind rjust rpartition rsplit rstrip setdefault split
+splitlines startswith strip update upper values zfill bit_length isascii""".split()
 MODULE_LEVEL = (ast.ImportFrom, ast.FunctionDef, ast.ClassDef, ast.Assign)
 
 
@@ -130,3 +133,67 @@ class LanguageTest(unittest.TestCase):
             words = re.findall(r"\w+", ast.unparse(tree))
             for word in (*BARRED, "type"):
                 self.assertNotIn(word, words, path)
+
+    def test_no_generator_expressions_where_objects_compare(self):
+        for path, tree in trees():
+            for node in ast.walk(tree):
+                if isinstance(node, ast.Call) and isinstance(node.func, ast.Name):
+                    if node.func.id in ("any", "all", "min", "max", "sum", "sorted"):
+                        self.assertNotIn(ast.GeneratorExp, [type(arg) for arg in node.args], (path, node.lineno))
+
+    def test_methods_that_are_called(self):
+        own = {node.name for _, tree in trees() for node in ast.walk(tree) if isinstance(node, ast.FunctionDef)}
+        for path, tree in trees():
+            for node in ast.walk(tree):
+                if isinstance(node, ast.Call) and isinstance(node.func, ast.Attribute):
+                    self.assertTrue(node.func.attr in own or node.func.attr in METHODS, (path, node.lineno))
+
+    def test_double_underscore_methods(self):
+        for path, tree in trees():
+            for owner in [node for node in ast.walk(tree) if isinstance(node, ast.ClassDef)]:
+                methods = {node.name: node for node in owner.body if isinstance(node, ast.FunctionDef)}
+                self.assertEqual(len(methods), len([node for node in owner.body if isinstance(node, ast.FunctionDef)]))
+                self.assertTrue("__getitem__" not in methods or "__iter__" in methods, (path, owner.name))
+                for name in ("__eq__", "__str__", "__len__"):
+                    for node in ast.walk(methods[name]) if name in methods else ():
+                        self.assertNotIsInstance(node, (ast.Assign, ast.AugAssign, ast.Delete), (path, owner.name, name))
+                for name, calls in (("__str__", ("str", "repr")), ("__len__", ("len",))):
+                    for node in ast.walk(methods[name]) if name in methods else ():
+                        if isinstance(node, ast.Return) and not isinstance(node.value, (ast.JoinedStr, ast.Constant)):
+                            self.assertIn(node.value.func.id, calls, (path, owner.name, name))
+
+    def test_names_of_properties_methods_and_attributes(self):
+        properties, methods = set(), set()
+        for path, tree in trees():
+            for owner in [node for node in ast.walk(tree) if isinstance(node, ast.ClassDef)]:
+                here = {node.name: node for node in owner.body if isinstance(node, ast.FunctionDef)}
+                told = {name for name, node in here.items() if [each.id for each in node.decorator_list] == ["property"]}
+                stored = {node.attr for node in ast.walk(owner) if isinstance(node, ast.Attribute) and isinstance(node.ctx, ast.Store)}
+                self.assertFalse(stored & set(here), (path, owner.name))
+                properties |= told
+                methods |= set(here) - told
+        self.assertFalse(properties & methods)
+        self.assertFalse(properties & set(METHODS))
+
+    def test_locals_hide_nothing(self):
+        for path, tree in trees():
+            outer = [alias.name for node in tree.body if isinstance(node, ast.ImportFrom) for alias in node.names]
+            outer += [node.name for node in tree.body if isinstance(node, (ast.ClassDef, ast.FunctionDef))]
+            for node in ast.walk(tree):
+                if isinstance(node, ast.FunctionDef):
+                    inner = {each.id for each in ast.walk(node) if isinstance(each, ast.Name) and isinstance(each.ctx, ast.Store)}
+                    inner |= {each.arg for each in ast.walk(node) if isinstance(each, ast.arg)}
+                    self.assertFalse(inner & set(outer), (path, node.name))
+
+    def test_sets_stand_where_they_may(self):
+        for path, tree in trees():
+            inside = set()
+            for node in ast.walk(tree):
+                if isinstance(node, ast.Call) and isinstance(node.func, ast.Name) and node.func.id in ("sorted", "len"):
+                    inside |= {id(arg) for arg in node.args if not node.keywords}
+                if isinstance(node, ast.Assign) and isinstance(node.targets[0], ast.Name):
+                    inside.add(id(node.value))
+            for node in ast.walk(tree):
+                called = isinstance(node, ast.Call) and isinstance(node.func, ast.Name) and node.func.id == "set"
+                if called or isinstance(node, (ast.Set, ast.SetComp)):
+                    self.assertIn(id(node), inside, (path, node.lineno))

@@ -1,7 +1,8 @@
 """The kinds of trees and their makings."""
 
+from linkbooks.base.lines import names_in, text_of, told_by, words_of
 from linkbooks.base.words import is_name, is_sorted
-from linkbooks.errors import InvalidKinds, InvalidOperation, ParseError, UnknownName
+from linkbooks.errors import InvalidKinds, InvalidOperation, UnknownName
 
 MAX_KINDS = 6
 MAX_PARTS = 3
@@ -29,14 +30,9 @@ def _are_kinds(leaf, makings):
     return all([part in names for name in makings for part in makings[name]])
 
 
-def _words_of(line):
-    """The words of a line between single blanks; none if the value is no string."""
-    return line.split(" ") if isinstance(line, str) else []
-
-
 def _leaf_in(line):
     """The leaf that a line tells, or None if it is no line of a leaf."""
-    words = _words_of(line)
+    words = words_of(line)
     if len(words) == 2 and words[0] == "leaf" and is_name(words[1]):
         return words[1]
     return None
@@ -44,14 +40,23 @@ def _leaf_in(line):
 
 def _making_in(line):
     """The pair of a kind and its making that a line tells, or None if it is no line of a kind."""
-    words = _words_of(line)
+    words = words_of(line)
     if len(words) != 3 or words[0] != "kind" or not is_name(words[1]):
         return None
-    making = tuple(words[2].split("+"))
-    return (words[1], making) if _is_making(making) else None
+    making = names_in(words[2], most=MAX_PARTS)
+    return (words[1], making) if making is not None and _is_making(making) else None
 
 
-def _is_renaming(names, kinds):
+def kinds_line(line):
+    """The pair of the place and of what a line of kinds tells there, or None if the value is no such line."""
+    leaf = _leaf_in(line)
+    if leaf is not None:
+        return (("leaf",), leaf)
+    told = _making_in(line)
+    return (("kind", told[0]), told[1]) if told is not None else None
+
+
+def is_renaming(names, kinds):
     """Whether the value is a dict from just these kinds to different names."""
     if not isinstance(names, dict) or len(names) != len(kinds):
         return False
@@ -73,18 +78,9 @@ class Kinds:
     @classmethod
     def from_lines(cls, *lines):
         """The kinds with these lines, in any order."""
-        leaf = None
-        makings = {}
-        for index, line in enumerate(lines):
-            told_leaf = _leaf_in(line)
-            told_kind = _making_in(line)
-            if told_leaf is not None and leaf is None:
-                leaf = told_leaf
-            elif told_kind is not None and told_kind[0] not in makings:
-                makings[told_kind[0]] = told_kind[1]
-            else:
-                raise ParseError(index)
-        return cls(leaf, makings)
+        told = told_by(lines, kinds_line)
+        makings = {place[1]: told[place] for place in told if place[0] == "kind"}
+        return cls(told.get(("leaf",)), makings)
 
     @property
     def leaf(self):
@@ -104,7 +100,7 @@ class Kinds:
     @property
     def lines(self):
         """The line of the leaf, then those of the makings."""
-        made = [f"kind {name} {'+'.join(self._makings[name])}" for name in self._makings]
+        made = [f"kind {name} {text_of(self._makings[name])}" for name in self._makings]
         return (f"leaf {self._leaf}", *made)
 
     def users(self, name):
@@ -123,7 +119,7 @@ class Kinds:
 
     def renamed(self, names):
         """The kinds with other names, by a dict from just the kinds to different names."""
-        if not _is_renaming(names, self._names):
+        if not is_renaming(names, self._names):
             raise InvalidOperation("this is no dict from just the kinds to different names")
         makings = {}
         for name in self._makings:

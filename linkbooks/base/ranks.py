@@ -36,11 +36,11 @@ def _kinds_by_rank(kinds):
     return by_rank, by_rank.index(existing)
 
 
-def _sums_by_rank(leaf, parts_of):
-    """For each rank up to MAX_RANK a dict from the kinds there to sums: 1 for the leaf at rank 0, and
-    for every other tree the sum over these parts."""
+def sums_by_rank(leaf, parts_of, ranks):
+    """For each rank below this number, and for rank 0, a dict from the kinds there to sums: 1 for the leaf at rank 0,
+    and for every other tree the sum over these parts."""
     by_rank = [{leaf: 1}]
-    for _ in range(MAX_RANK):
+    while len(by_rank) < ranks:
         below = by_rank[-1]
         by_rank.append({
             name: sum([below[part] for part in parts])
@@ -89,8 +89,8 @@ class Ranks:
         self._kinds = kinds
         self._by_rank, self._turn = _kinds_by_rank(kinds)
         self._parts_of = {name: sorted(set(makings[name])) for name in makings}
-        self._sizes = _sums_by_rank(kinds.leaf, makings)
-        self._ways = _sums_by_rank(kinds.leaf, self._parts_of)
+        self._sizes = sums_by_rank(kinds.leaf, makings, MAX_RANK + 1)
+        self._ways = sums_by_rank(kinds.leaf, self._parts_of, MAX_RANK + 1)
 
     @property
     def kinds(self):

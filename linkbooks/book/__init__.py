@@ -1,0 +1,1 @@
+"""Books: pages, machines, and what they are kept in."""

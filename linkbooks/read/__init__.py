@@ -1,0 +1,1 @@
+"""Readers: which rows are right."""
