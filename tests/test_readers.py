@@ -414,6 +414,37 @@ class LeastTest(Case):
         unmet = Reader.from_lines("first s", "ends n o", "read s a n", "read x a o", "read s 0 z")
         self.same([unmet.least().lines], [("first s", "ends n", "read s a n")])
 
+    def split(self, chance, reader):
+        """A reader that takes the same rows, with more states: each line leads to any one of several that are alike."""
+        names = chance.sample([name for name in "abcdefgh"], 5)
+        alike = {state: [] for state in reader.states if state != reader.first}
+        for at, name in enumerate(names):
+            alike[(list(alike) * 5)[at]].append(name)
+        alike[reader.first] = ["s"]
+        reads = {}
+        for (state, digit), after in reader.reads.items():
+            for twin in alike[state]:
+                reads[twin, digit] = chance.choice(alike[after])
+        return Reader("s", tuple(sorted(name for state in reader.ends for name in alike[state])), reads)
+
+    def test_states_that_are_alike_are_one(self):
+        chance = random.Random(31)
+        for reader in readers(200, seed=29):
+            if len(reader) <= 4 and rows_taken(reader, 7) != {()}:
+                more = self.split(chance, reader)
+                self.same([parting_row(more, reader), len(more.least())], [None, len(reader.least())])
+
+    def test_states_that_are_alike_by_any_names(self):
+        lines = ("first s", "ends O", "read s 0 A", "read s a C", "read A 0 B", "read A a O", "read B a O", "read C 0 B", "read C a O")
+        for names in itertools.permutations("abcd"):
+            mapped = []
+            for line in lines:
+                for old, new in zip("ABCO", names):
+                    line = line.replace(old, new)
+                mapped.append(line)
+            reader = Reader.from_lines(*mapped)
+            self.same([len(reader), len(reader.least()), parting_row(reader, reader.least())], [5, 4, None])
+
     def test_the_first_state_stands_for_itself(self):
         # From z the same rows lead to an end as from s, but no line can lead to s.
         self.same(len(binary().least()), 3)

@@ -58,9 +58,9 @@ def _ways_below(parts_of, above):
     return below
 
 
-def _ways_onward(parts_of, name, rank):
-    """For each rank up to this one a dict that tells from which kinds how many ways lead on to this tree."""
-    downward = [{name: 1}]
+def _ways_onward(parts_of, names, rank):
+    """For each rank up to this one a dict that tells from which kinds how many ways lead on to trees of these kinds."""
+    downward = [{name: 1 for name in names}]
     for _ in range(rank):
         downward.append(_ways_below(parts_of, downward[-1]))
     return downward[::-1]
@@ -139,7 +139,13 @@ class Ranks:
             raise InvalidNumber(number)
         if number >= self.ways_to(name, rank):
             raise InvalidNumber(number)
-        return _way_numbered(self._kinds, _ways_onward(self._parts_of, name, rank), number)
+        return _way_numbered(self._kinds, _ways_onward(self._parts_of, (name,), rank), number)
+
+    def each_way(self, names, rank):
+        """A generator of the ways to trees of these kinds, which exist at this rank, in ascending order."""
+        onward = _ways_onward(self._parts_of, names, rank)
+        for number in range(onward[0].get(self._kinds.leaf, 0)):
+            yield _way_numbered(self._kinds, onward, number)
 
     def is_way(self, value):
         """Whether the value is a way to some tree."""

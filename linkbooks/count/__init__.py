@@ -1,0 +1,1 @@
+"""Right rows counted by their keys."""

@@ -1,0 +1,1 @@
+"""Deeds: puts, melds and takes, on rows."""

@@ -1,0 +1,1 @@
+"""Trees and heaps with keys."""
