@@ -181,6 +181,34 @@ class KnownTest(Case):
             row = new_row(GUIDED, row, ("put",))
         self.same([row, GUIDED.is_right(read_row("0 0 a")), GUIDED.is_right(row)], [read_row("0 a+a"), True, True])
 
+    def test_good_for_one_key_each_is_not_good_for_more(self):
+        less = BINOMIAL.without("page m a+a+a to a then m")
+        ones = [row for row in rows_up_to(less, 1)[1]]
+        self.same([is_done(less, one, ("meld", other)) for one in ones for other in ones], [True])
+        self.same(is_done(less, read_row("a a"), ("meld", read_row("a a"))), False)
+
+    def test_rows_cannot_be_melded_in_any_order(self):
+        rows = few_rows(MIXED, 12)
+        parted = 0
+        for one, other, third in itertools.product(rows[:14], repeat=3):
+            left, right = new_row(MIXED, one, ("meld", other)), new_row(MIXED, other, ("meld", third))
+            if MIXED.is_right(left) and MIXED.is_right(right):
+                parted += new_row(MIXED, left, ("meld", third)) != new_row(MIXED, one, ("meld", right))
+        self.assertGreater(parted, 0)
+
+    def test_less_pages_do_not_mean_fewer_links(self):
+        less = HYPER.with_line("page m a+a to a then m")
+        more = less.with_line("page m a to 0 then still")
+        row = read_row("a a+a")
+        self.same([links(more, row, ("meld", ())), links(less, row, ("meld", ()))], [0, 1])
+
+    def test_melds_and_children_do_not_make_takes_good(self):
+        # Melds go as in binary numbers, and children are right rows, but a take begins with a note without pages.
+        book = BINOMIAL.with_line("start take t")
+        children = book.ranks.children_of(("a", "a"))
+        self.same([book.is_right(children), is_done(book, (A,), ("meld", children))], [True, True])
+        self.same([new_row(book, (A, A), ("take", 1, ("a", "a"))), is_done(book, (A, A), ("take", 1, ("a", "a")))], [(("a", "a"),), False])
+
     def test_great_rows(self):
         chance = random.Random(9)
         for _ in range(20):

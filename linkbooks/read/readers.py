@@ -158,7 +158,8 @@ class Reader:
     def lines(self):
         """The lines of the first state, of those that end, and of what is read."""
         reads = [f"read {place[0]} {text_of(place[1])} {self._reads[place]}" for place in self._reads]
-        return (f"first {self._first}", f"ends {' '.join(self._ends)}", *reads)
+        ends = " ".join(["ends", *self._ends])
+        return (f"first {self._first}", ends, *reads)
 
     @property
     def spare(self):
