@@ -6,6 +6,8 @@ import pathlib
 import re
 import unittest
 
+from tests.purity import Package, faults
+
 TOP = pathlib.Path(__file__).resolve().parent.parent
 PACKAGE = TOP / "linkbooks"
 LIBRARY = {
@@ -197,3 +199,21 @@ class LanguageTest(unittest.TestCase):
                 called = isinstance(node, ast.Call) and isinstance(node.func, ast.Name) and node.func.id == "set"
                 if called or isinstance(node, (ast.Set, ast.SetComp)):
                     self.assertIn(id(node), inside, (path, node.lineno))
+
+    def test_operators_and_properties_change_nothing(self):
+        package = Package(trees())
+        self.assertGreater(len(package.roots), 60)
+        for path, owner, node in package.roots:
+            for other, each in package.all_run_by(path, node):
+                # An error is made where it is raised; nothing else is there yet that could be changed.
+                if other.name != "errors.py":
+                    self.assertEqual(faults(each), [], (path, owner, node.name, other, each.name))
+
+    def test_what_counts_as_a_change(self):
+        text = "class Box:\n @property\n def many(self):\n  return told(self)\ndef told(box):\n {}\n return 1"
+        wrong = ("box.n = 1", "box[1] = 2", "box.rows.append(1)", "yield box", "rows = box.rows; rows.pop()", "box.n += 1", "del box[1]", "n = 1; n += box")
+        right = ("rows = []; rows.append(1)", "rows = list(box.rows); rows.pop()", "rows = {}; rows[1] = 2", "n = 1; n += 1", "n = box; n = n + box")
+        for row in (*wrong, *right):
+            package = Package([(pathlib.Path("box.py"), ast.parse(text.format(row)))])
+            found = [fault for path, _, node in package.roots for _, each in package.all_run_by(path, node) for fault in faults(each)]
+            self.assertEqual(bool(found), row in wrong, row)

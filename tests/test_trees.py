@@ -308,6 +308,16 @@ class SignsTest(Case):
         for value in (*STRANGE, (0,), [0], "0", tree, Tree(DOUBLE, 0)):
             self.same(value in tree, False)
 
+    def test_content_beside_nodes(self):
+        for tree, _ in many_drawn(seed=19, many=80):
+            keys = [key for key, _ in nodes_of(tree)]
+            nodes = nodes_of(tree)
+            first = next(nodes)
+            self.same([tree.content, tree.content], [tuple(sorted(keys))] * 2)
+            self.same([key in tree for key in range(-4, 5)], [key in keys for key in range(-4, 5)])
+            # A generator that is half gone through goes on as before.
+            self.same([first, *nodes], list(nodes_of(tree)))
+
     def test_cannot_be_iterated_over(self):
         self.cannot_be_iterated_over(Tree(DOUBLE, 5))
         self.cannot_be_iterated_over(Tree.linked("a", leaves(DOUBLE, 0, 1)))

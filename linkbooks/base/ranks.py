@@ -36,16 +36,20 @@ def _kinds_by_rank(kinds):
     return by_rank, by_rank.index(existing)
 
 
+def sums_above(parts_of, below):
+    """The dict from the kinds at the rank above to sums over these parts, by the sums at the rank below it."""
+    return {
+        name: sum([below[part] for part in parts])
+        for name, parts in parts_of.items() if all([part in below for part in parts])
+    }
+
+
 def sums_by_rank(leaf, parts_of, ranks):
     """For each rank below this number, and for rank 0, a dict from the kinds there to sums: 1 for the leaf at rank 0,
     and for every other tree the sum over these parts."""
     by_rank = [{leaf: 1}]
     while len(by_rank) < ranks:
-        below = by_rank[-1]
-        by_rank.append({
-            name: sum([below[part] for part in parts])
-            for name, parts in parts_of.items() if all([part in below for part in parts])
-        })
+        by_rank.append(sums_above(parts_of, by_rank[-1]))
     return by_rank
 
 

@@ -158,7 +158,7 @@ class Book:
         return f"book of {len(self._kinds)} kinds, {len(self._reader)} states, {len(self._machine)} pages"
 
 
-def _notes_of(book):
+def notes_of(book):
     """The ascending tuple of the notes of pages and of starts."""
     starts = book.starts
     return tuple(sorted(set([*book.machine.notes, *[starts[deed] for deed in DEEDS]])))
@@ -195,7 +195,7 @@ def renamed_book(book, *, kinds=None, states=None, notes=None):
         raise InvalidBook("this is no book")
     to_kinds = _renaming(kinds, book.kinds.names)
     to_states = _renaming(states, book.reader.states)
-    to_notes = _renaming(notes, _notes_of(book))
+    to_notes = _renaming(notes, notes_of(book))
     new_kinds = book.kinds.renamed(to_kinds)
     pages = [_renamed_page(page, to_kinds, to_notes) for page in book.machine.pages]
     starts = book.starts

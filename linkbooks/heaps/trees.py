@@ -25,6 +25,16 @@ def _tree_of(kinds, key, way, children):
     return tree
 
 
+def _keys_in(tree):
+    """The keys of all nodes, depth by depth. Properties and operators ask for them, so nothing is changed here."""
+    keys = []
+    level = [tree]
+    while level:
+        keys = keys + [each.key for each in level]
+        level = [child for each in level for digit in each.children for child in digit]
+    return keys
+
+
 class Tree:
     """A tree with a key in each node, none of which is less than the one above it."""
 
@@ -87,7 +97,7 @@ class Tree:
     @property
     def content(self):
         """The sorted tuple of its keys."""
-        return tuple(sorted([key for key, _ in nodes_of(self)]))
+        return tuple(sorted(_keys_in(self)))
 
     @property
     def children(self):
@@ -114,7 +124,7 @@ class Tree:
         return _tree_of(self._kinds, key, self._way, self._children)
 
     def __contains__(self, value):
-        return is_integer(value) and value in [key for key, _ in nodes_of(self)]
+        return is_integer(value) and value in _keys_in(self)
 
     def __len__(self):
         return len(range(self._size))

@@ -1,0 +1,1 @@
+"""What is decided for all heaps: tables, papers, links, plans, uses."""

@@ -1,0 +1,1 @@
+"""Texts of what there is, and a shell that answers lines of text."""

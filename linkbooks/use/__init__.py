@@ -1,0 +1,1 @@
+"""A bench: a book that is worked on."""
