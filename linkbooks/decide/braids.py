@@ -2,7 +2,7 @@
 it. A deed that is in both is done once. Nothing else matters of a plan that has failed."""
 
 from linkbooks.decide.courses import Steps
-from linkbooks.decide.readings import ENDED, Reading, all_of
+from linkbooks.decide.readings import ENDED, Reading, all_of, least_reader
 
 LETTERS = ("A", "B", "C")
 
@@ -87,7 +87,8 @@ class Braid:
     have not failed; and whether the rows to which they come are the same so far."""
 
     def __init__(self, book, texts, letters):
-        reader = book.reader
+        # Rows are right or not whatever the states are; so as few as possible are told apart.
+        reader = least_reader(book.reader)
         self._first = reader.first
         self._last = reader.ends
         self._lines = reader.reads

@@ -1,7 +1,7 @@
 """Deeds of a kind by two books side by side, in rows that are right in both."""
 
 from linkbooks.decide.courses import Steps
-from linkbooks.decide.readings import Reading
+from linkbooks.decide.readings import Reading, least_reader
 
 # What is told of the machines once the new rows differ: nothing else matters of them then.
 _PARTED = ()
@@ -9,7 +9,7 @@ _PARTED = ()
 
 def _common_reading(book, other):
     """How rows are read that are right in both of two books with equal kinds. A state is a pair of states."""
-    one, two = book.reader, other.reader
+    one, two = least_reader(book.reader), least_reader(other.reader)
     ones, twos = one.reads, two.reads
     lines = {
         ((before, beside), digit): (ones[before, digit], twos[beside, read])

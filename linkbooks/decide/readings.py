@@ -2,6 +2,7 @@
 
 from linkbooks.base.lines import names_in, text_of
 from linkbooks.base.rows import MAX_DIGIT, merged
+from linkbooks.errors import InvalidOperation
 
 # What is told of a row that has ended, in place of a state, of the text of a digit, or of the kind of a top.
 ENDED = ""
@@ -13,6 +14,14 @@ HERE = "!"
 def text_row(texts):
     """The row that is read by these texts of digits, from rank 0 on."""
     return tuple([names_in(text, most=MAX_DIGIT) for text in texts if text != ENDED])
+
+
+def least_reader(reader):
+    """A reader that takes the same rows, with as few states as possible."""
+    try:
+        return reader.least()
+    except InvalidOperation:
+        return reader
 
 
 def _less(digit, name):

@@ -19,7 +19,8 @@ class Spread:
     def _followers(self, course, at, most):
         """The numbers of the spots that follow from the one with this number. There may be so many but the start."""
         follow = {}
-        for road in course.roads(self.spots[at]):
+        roads = course.roads(self.spots[at])
+        for road in roads:
             number = self.numbers.get(road[1])
             if number is None:
                 if len(self.spots) > most:

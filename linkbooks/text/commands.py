@@ -15,7 +15,6 @@ from linkbooks.errors import InvalidPlan, ParseError
 from linkbooks.text.texts import count_in, read_deed, write_deed, write_paper
 
 _NONE = "nothing"
-_BETWEEN = "; "
 
 
 def _yes_or_no(value):
@@ -30,7 +29,7 @@ def _number_text(value):
 
 def _joined(texts):
     """Several texts in one line."""
-    return _BETWEEN.join(texts) if texts else _NONE
+    return "; ".join(texts) if texts else _NONE
 
 
 def _news_text(news):
@@ -134,7 +133,7 @@ def _paper(bench, text):
     if text not in DEEDS:
         return None
     told = paper(bench.book, text)
-    return "good" if told[0] == "good" else write_paper(told).replace("\n", _BETWEEN)
+    return "good" if told[0] == "good" else _joined(write_paper(told).split("\n"))
 
 
 def _most(bench, text):
