@@ -92,6 +92,12 @@ class LanguageTest(unittest.TestCase):
                 for alias in node.names:
                     self.assertIn(alias.name, known, path)
 
+    def test_imports_are_used(self):
+        for path, tree in trees():
+            used = {node.id for node in ast.walk(tree) if isinstance(node, ast.Name)}
+            for node in [node for node in tree.body if isinstance(node, ast.ImportFrom)]:
+                self.assertLessEqual({alias.name for alias in node.names}, used, path)
+
     def test_no_files_import_from_each_other(self):
         wanted = {}
         for path, tree in trees():
@@ -217,3 +223,28 @@ class LanguageTest(unittest.TestCase):
             package = Package([(pathlib.Path("box.py"), ast.parse(text.format(row)))])
             found = [fault for path, _, node in package.roots for _, each in package.all_run_by(path, node) for fault in faults(each)]
             self.assertEqual(bool(found), row in wrong, row)
+
+    def test_a_block_ends_plainly(self):
+        """[L6] Behind a block attributes are assigned attributes, and nothing else is done."""
+        found = 0
+        for path, tree in trees():
+            for node in ast.walk(tree):
+                if isinstance(node, ast.FunctionDef) and node.name == "__exit__":
+                    found += 1
+                    for row in node.body:
+                        self.assertIsInstance(row, ast.Assign, path)
+                        self.assertIsInstance(row.value, ast.Attribute, path)
+                        self.assertEqual([type(target) for target in row.targets], [ast.Attribute], path)
+        self.assertEqual(found, 1)
+
+    def test_iteration_is_one_statement(self):
+        """[L5] An object is iterated over as an attribute is, or not at all."""
+        for path, tree in trees():
+            for node in ast.walk(tree):
+                if isinstance(node, ast.FunctionDef) and node.name == "__iter__":
+                    self.assertEqual(len(node.body), 1, path)
+                    row = node.body[0]
+                    if not isinstance(row, ast.Raise):
+                        self.assertIsInstance(row, ast.Return, path)
+                        self.assertEqual(row.value.func.id, "iter", path)
+                        self.assertIsInstance(row.value.args[0], ast.Attribute, path)

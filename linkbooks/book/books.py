@@ -158,6 +158,12 @@ class Book:
         return f"book of {len(self._kinds)} kinds, {len(self._reader)} states, {len(self._machine)} pages"
 
 
+def check_book(book):
+    """Refuse what is no book."""
+    if not isinstance(book, Book):
+        raise InvalidBook("this is no book")
+
+
 def notes_of(book):
     """The ascending tuple of the notes of pages and of starts."""
     starts = book.starts
@@ -191,8 +197,7 @@ def _renamed_page(page, kinds, notes):
 
 def renamed_book(book, *, kinds=None, states=None, notes=None):
     """The book with other names of its kinds, its states, its notes; None leaves them."""
-    if not isinstance(book, Book):
-        raise InvalidBook("this is no book")
+    check_book(book)
     to_kinds = _renaming(kinds, book.kinds.names)
     to_states = _renaming(states, book.reader.states)
     to_notes = _renaming(notes, notes_of(book))

@@ -2,27 +2,21 @@
 
 from linkbooks.base.rows import MAX_RANKS, keys_of
 from linkbooks.base.words import is_count
-from linkbooks.book.books import Book
+from linkbooks.book.books import check_book
 from linkbooks.count.sums import Sums, counts_by_rank, least_above, least_by_rank, trees_by_rank
-from linkbooks.errors import InvalidBook, InvalidNumber, InvalidRow
-
-
-def _check_book(book):
-    """Refuse what is no book."""
-    if not isinstance(book, Book):
-        raise InvalidBook("this is no book")
+from linkbooks.errors import InvalidNumber, InvalidRow
 
 
 def _check_keys(book, keys):
     """Refuse what is no book, then what is no integer of at least 0."""
-    _check_book(book)
+    check_book(book)
     if not is_count(keys):
         raise InvalidNumber(keys)
 
 
 def _check_ranks(book, ranks):
     """Refuse what is no book, then what is no integer from 0 to 400."""
-    _check_book(book)
+    check_book(book)
     if not is_count(ranks) or ranks > MAX_RANKS:
         raise InvalidNumber(ranks)
 
@@ -115,7 +109,7 @@ def right_at(book, keys, number):
 
 def number_of(book, row):
     """The number of a right row among those with as many keys."""
-    _check_book(book)
+    check_book(book)
     if not book.is_right(row):
         raise InvalidRow("this is no right row")
     # Those with more ranks come behind it.

@@ -1,29 +1,21 @@
 """Plans: puts and melds of rows one behind the other, and whether two of them always come to the same."""
 
 from linkbooks.base.words import is_integer
-from linkbooks.book.books import Book
+from linkbooks.book.books import check_book
 from linkbooks.decide.braids import LETTERS, Braid, deeds_in
 from linkbooks.decide.nets import least_reads
 from linkbooks.decide.readings import text_row
-from linkbooks.decide.spreads import Spread
+from linkbooks.decide.spreads import MAX_SPOTS, Spread
 from linkbooks.deeds.rows import run_deed
-from linkbooks.errors import InvalidBook, InvalidOperation, InvalidPlan, Spoilt
+from linkbooks.errors import InvalidOperation, InvalidPlan, Spoilt
 from linkbooks.heaps.heaps import Heap
 
 MAX_PLAN = 4
-
-_MAX_THINGS = 20000
 
 
 def _are_for(letters, value):
     """Whether the value is a dict with just these letters as its keys."""
     return isinstance(value, dict) and len(value) == len(letters) and all([letter in value for letter in letters])
-
-
-def _check_book(book):
-    """Refuse what is no book."""
-    if not isinstance(book, Book):
-        raise InvalidBook("this is no book")
 
 
 def _are_right(book, letters, value):
@@ -64,7 +56,7 @@ class Plan:
 
     def run(self, book, rows):
         """The row to which the plan comes."""
-        _check_book(book)
+        check_book(book)
         if not _are_right(book, self._letters, rows):
             raise InvalidOperation("this is no dict from just the letters to right rows")
         found = {letter: rows[letter] for letter in self._letters}
@@ -78,7 +70,7 @@ class Plan:
 
     def run_heaps(self, book, heaps, *keys):
         """The heap to which the plan comes, with these keys for its puts."""
-        _check_book(book)
+        check_book(book)
         if not _are_for(self._letters, heaps) or not all([_is_heap(book, heaps[letter]) for letter in self._letters]):
             raise InvalidOperation("this is no dict from just the letters to heaps of the book")
         puts = len([deed for deed in self._made if deed[0] == "put"])
@@ -112,7 +104,7 @@ class Plan:
 
 def _check_plans(book, one, other):
     """Refuse what is no book, then what is no plan."""
-    _check_book(book)
+    check_book(book)
     if not isinstance(one, Plan) or not isinstance(other, Plan):
         raise InvalidPlan("this is no plan")
 
@@ -128,7 +120,7 @@ def parting_rows(book, one, other):
     _check_plans(book, one, other)
     letters = _letters_of(one, other)
     course = Braid(book, (one.text, other.text), letters)
-    spread = Spread(course, _MAX_THINGS)
+    spread = Spread(course, MAX_SPOTS)
     goals = [at for at, spot in enumerate(spread.spots) if course.is_parting(spot)]
     reads = least_reads(course, spread, goals, book.kinds, 2 * max(one.deeds, other.deeds))
     if reads is None:

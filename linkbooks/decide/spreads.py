@@ -2,6 +2,9 @@
 
 from linkbooks.errors import TooMany
 
+# So many spots may come behind the start where two plans, or two books, are compared.
+MAX_SPOTS = 20000
+
 
 class Spread:
     """All spots that come behind the start of a course, numbered from 0 on: the start first, and each one ahead of

@@ -1,20 +1,19 @@
 """Stands between two ranks, and tables of them: they tell whether all deeds of a kind are done."""
 
 from linkbooks.base.words import is_count, is_sorted
-from linkbooks.book.books import DEEDS, Book, notes_of
+from linkbooks.book.books import DEEDS, check_book, notes_of
 from linkbooks.book.pages import MAX_MADE
 from linkbooks.decide.courses import Course
 from linkbooks.decide.readings import ENDED
 from linkbooks.decide.spreads import Spread, leading_to
-from linkbooks.errors import InvalidBook, InvalidOperation
+from linkbooks.errors import InvalidOperation
 
 MAX_TABLE = 20000
 
 
 def check_deeds(book, kind):
     """Refuse what is no book, then what is no kind of deeds."""
-    if not isinstance(book, Book):
-        raise InvalidBook("this is no book")
+    check_book(book)
     if kind not in DEEDS:
         raise InvalidOperation("this is no kind of deeds")
 

@@ -1,24 +1,16 @@
 """What is of use in a book: the pages that deeds meet, those that none meets, the pools without a page; and deeds at
 which two books part."""
 
-from linkbooks.book.books import DEEDS, Book
+from linkbooks.book.books import DEEDS, Book, check_book
 from linkbooks.book.pages import Machine
 from linkbooks.decide.courses import Course
 from linkbooks.decide.nets import least_reads, least_way
 from linkbooks.decide.pairs import Pair
 from linkbooks.decide.papers import BEYOND, table_net, told_deed
-from linkbooks.decide.spreads import Spread
+from linkbooks.decide.spreads import MAX_SPOTS, Spread
 from linkbooks.decide.tables import Table, check_deeds
-from linkbooks.errors import InvalidBook, InvalidOperation, UnknownName
+from linkbooks.errors import InvalidOperation, UnknownName
 from linkbooks.read.readers import Reader
-
-_MAX_THINGS = 20000
-
-
-def _check_book(book):
-    """Refuse what is no book."""
-    if not isinstance(book, Book):
-        raise InvalidBook("this is no book")
 
 
 def _moves_between(table):
@@ -60,13 +52,13 @@ def _unmet_pages(book):
 
 def unmet(book):
     """The ascending tuple of the lines of the pages that no deeds of any kind meet."""
-    _check_book(book)
+    check_book(book)
     return tuple(sorted([page.line for page in _unmet_pages(book)]))
 
 
 def spared(book):
     """The book without the pages that no deeds meet, and without the reads that its reader can spare."""
-    _check_book(book)
+    check_book(book)
     idle = [page.line for page in _unmet_pages(book)]
     pages = tuple([page for page in book.machine.pages if page.line not in idle])
     reads, spare = book.reader.reads, book.reader.spare
@@ -87,13 +79,13 @@ def lacking(book, kind):
 def parting_deed(book, other, kind):
     """A row that is right in both of two books with equal kinds, and a deed of a kind at which they part, with as few
     keys as possible; None if they are alike."""
-    _check_book(book)
-    _check_book(other)
+    check_book(book)
+    check_book(other)
     if book.kinds != other.kinds:
         raise InvalidOperation("the books have other kinds")
     check_deeds(book, kind)
     course = Pair(book, other, kind)
-    spread = Spread(course, _MAX_THINGS)
+    spread = Spread(course, MAX_SPOTS)
     goals = [at for at, spot in enumerate(spread.spots) if course.parts_at(spot)]
     reads = least_reads(course, spread, goals, book.kinds, BEYOND)
     return told_deed(book.kinds.leaf, kind, reads) if reads is not None else None

@@ -2,14 +2,13 @@
 
 from linkbooks.base.rows import digit_at, merged
 from linkbooks.base.words import is_count
-from linkbooks.book.books import Book
-from linkbooks.errors import InvalidBook, InvalidOperation, InvalidRow
+from linkbooks.book.books import check_book
+from linkbooks.errors import InvalidOperation, InvalidRow
 
 
 def _check_row(book, row):
     """Refuse what is no book, then what is no right row."""
-    if not isinstance(book, Book):
-        raise InvalidBook("this is no book")
+    check_book(book)
     if not book.is_right(row):
         raise InvalidRow("this is no right row")
 

@@ -2,10 +2,10 @@
 
 from linkbooks.base.rows import digit_at
 from linkbooks.base.words import is_count, is_integer
-from linkbooks.book.books import Book
+from linkbooks.book.books import check_book
 from linkbooks.deeds.rows import run_deed
 from linkbooks.errors import (
-    EmptyHeap, InvalidBook, InvalidHeap, InvalidNumber, InvalidOperation, NothingToUndo, Spoilt, TooMany,
+    EmptyHeap, InvalidHeap, InvalidNumber, InvalidOperation, NothingToUndo, Spoilt, TooMany,
 )
 from linkbooks.heaps.trees import Tree
 
@@ -84,8 +84,7 @@ class Heap:
     """A heap: it never changes, each deed gives a new one."""
 
     def __init__(self, book, content=()):
-        if not isinstance(book, Book):
-            raise InvalidBook("this is no book")
+        check_book(book)
         if not _is_content(content):
             raise InvalidOperation("this is no tuple of at most 5000 integers")
         self._book = book
@@ -101,8 +100,7 @@ class Heap:
     @classmethod
     def of_trees(cls, book, trees):
         """The heap with these trees, a tuple of them for each rank."""
-        if not isinstance(book, Book):
-            raise InvalidBook("this is no book")
+        check_book(book)
         if not _are_trees(book, trees):
             raise InvalidHeap("these trees stand in no right row of the book")
         if _many_in(trees) > MAX_CONTENT:

@@ -2,7 +2,7 @@
 
 from linkbooks.base.kinds import Kinds
 from linkbooks.base.words import is_integer
-from linkbooks.errors import InvalidKinds, InvalidOperation, InvalidTree, TooMany, UnknownName
+from linkbooks.errors import InvalidKinds, InvalidOperation, InvalidTree, TooMany
 
 MAX_NODES = 5000
 

@@ -3,9 +3,9 @@
 from linkbooks.base.lines import names_in, text_of, words_of
 from linkbooks.base.rows import MAX_RANKS, is_loose, read_row, write_row
 from linkbooks.base.words import MAX_FIGURES, is_count, is_name, is_sorted
-from linkbooks.book.books import Book
+from linkbooks.book.books import Book, check_book
 from linkbooks.book.pages import MAX_MADE
-from linkbooks.errors import InvalidBook, InvalidOperation, InvalidPaper, ParseError
+from linkbooks.errors import InvalidOperation, InvalidPaper, ParseError
 
 # What stands for an empty text among words.
 _EMPTY = "."
@@ -21,8 +21,7 @@ def count_in(word):
 
 def write_book(book):
     """The text of a book."""
-    if not isinstance(book, Book):
-        raise InvalidBook("this is no book")
+    check_book(book)
     return "\n".join(book.lines)
 
 

@@ -2,14 +2,12 @@
 
 from linkbooks.base.rows import is_loose
 from linkbooks.base.words import is_count
-from linkbooks.book.books import DEEDS, Book
+from linkbooks.book.books import DEEDS, check_book
 from linkbooks.decide.links import links_bound
 from linkbooks.decide.plans import Plan, are_alike
 from linkbooks.decide.tables import Table
 from linkbooks.deeds.rows import is_deed, is_done
-from linkbooks.errors import (
-    InvalidBook, InvalidNumber, InvalidOperation, InvalidPlan, NothingToUndo, Refused, TooMany,
-)
+from linkbooks.errors import InvalidNumber, InvalidOperation, InvalidPlan, NothingToUndo, Refused, TooMany
 from linkbooks.text.texts import has_deed_form
 
 MAX_PLEDGES = 10
@@ -64,9 +62,10 @@ class Layout:
         self.goods = goods
         self.rows = book.lines
 
-    def has_vow(self, value):
-        """Whether the value is one of the pledges. True is not 1, so equal values are not enough."""
-        return any([value == pledge and repr(value) == repr(pledge) for pledge in self.vows])
+
+def _is_among(pledges, value):
+    """Whether the value is one of these pledges. True is not 1, so equal values are not enough."""
+    return any([value == pledge and repr(value) == repr(pledge) for pledge in pledges])
 
 
 def _news(before, after):
@@ -108,8 +107,7 @@ class Bench:
     `_past` and in `_ahead`, the oldest first."""
 
     def __init__(self, book):
-        if not isinstance(book, Book):
-            raise InvalidBook("this is no book")
+        check_book(book)
         self._now = Layout(book, (), _goods_of(book))
         self._past = ()
         self._ahead = ()
@@ -142,7 +140,7 @@ class Bench:
 
     def demand(self, pledge):
         """Have one more pledge."""
-        if not _is_pledge(pledge) or self._now.has_vow(pledge):
+        if not _is_pledge(pledge) or _is_among(self._now.vows, pledge):
             raise InvalidOperation("this is no pledge, or there already")
         if len(self._now.vows) >= MAX_PLEDGES:
             raise TooMany(MAX_PLEDGES)
@@ -152,7 +150,7 @@ class Bench:
 
     def waive(self, pledge):
         """Do without a pledge."""
-        if not self._now.has_vow(pledge):
+        if not _is_among(self._now.vows, pledge):
             raise InvalidOperation("there is no such pledge")
         rest = tuple([other for other in self._now.vows if other != pledge])
         return self._changed(Layout(self._now.shown, rest, self._now.goods))
@@ -212,7 +210,7 @@ class Bench:
         return self._now.vows
 
     def __contains__(self, value):
-        return value in self._now.rows or self._now.has_vow(value)
+        return value in self._now.rows or _is_among(self._now.vows, value)
 
     def __iter__(self):
         return iter(self._now.rows)
