@@ -183,6 +183,17 @@ class LanguageTest(unittest.TestCase):
         self.assertFalse(properties & methods)
         self.assertFalse(properties & set(METHODS))
 
+    def test_attributes_are_no_methods_elsewhere(self):
+        """[L18] stricter than the rule: no name is both, in whatever classes."""
+        stored, methods = set(), set()
+        for _, tree in trees():
+            for node in ast.walk(tree):
+                if isinstance(node, ast.Attribute) and isinstance(node.ctx, ast.Store):
+                    stored.add(node.attr)
+                if isinstance(node, ast.ClassDef):
+                    methods |= {each.name for each in node.body if isinstance(each, ast.FunctionDef)}
+        self.assertFalse(stored & methods)
+
     def test_locals_hide_nothing(self):
         for path, tree in trees():
             outer = [alias.name for node in tree.body if isinstance(node, ast.ImportFrom) for alias in node.names]

@@ -178,7 +178,7 @@ class Braid:
         needed = [deed for plan in range(2) if sound[plan] for deed in self._plans.members[plan]]
         return tuple([threads[deed] if deed in needed else ENDED for deed in range(len(threads))])
 
-    def roads(self, spot):
+    def moves_from(self, spot):
         """How the plans go on from a spot: the texts that are read, the next spot, and what is read in all."""
         rank, states, rest = spot
         carries = self._carries(spot)

@@ -49,7 +49,7 @@ class Course:
         """Whether a stand is final."""
         return not stand[2] and self.waiting(stand) == 0
 
-    def roads(self, stand):
+    def moves_from(self, stand):
         """How deeds go on from a stand: for each move its reads, the next stand, what is read in all, the pool, and
         what is made."""
         rank, rows, carried, note, state, ends = stand
@@ -66,7 +66,7 @@ class Course:
 
     def behind(self, stand, reads):
         """The stand that follows by these reads, None if there is none."""
-        for road in self.roads(stand):
+        for road in self.moves_from(stand):
             if road[0] == reads:
                 return road[1]
         return None

@@ -58,7 +58,7 @@ class Net:
     def _exits_of(self, course, spot, numbers, gain):
         """The dict from pairs of the number of the next spot and of what is gained to what can be read then."""
         costs = {}
-        for road in course.roads(spot):
+        for road in course.moves_from(spot):
             after = numbers.get(road[1])
             if after is not None:
                 costs.setdefault((after, gain(spot, road)), {}).setdefault(road[2], road[0])

@@ -54,7 +54,7 @@ class Pair:
         _, beside, also_made, also_note = self._beside.at_rank(sides[1][0], part, sides[1][1])
         return ((note, made), (also_note, also_made)) if digit == beside else _PARTED
 
-    def roads(self, spot):
+    def moves_from(self, spot):
         """How deeds go on from a spot: the reads of the move, the next spot, and what is read in all."""
         rank, rows, sides = spot
         above = self._bases.base_of(rank + 1)

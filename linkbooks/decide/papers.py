@@ -66,7 +66,7 @@ def _leads_to_end(course, stands):
         stand = waiting.pop()
         if course.is_end(stand):
             return True
-        for road in course.roads(stand):
+        for road in course.moves_from(stand):
             if road[1] not in known:
                 known[road[1]] = True
                 waiting.append(road[1])
@@ -81,7 +81,7 @@ def _shows_good(book, kind, value):
     inside = {stand: True for stand in value}
     if course.start() not in inside or any([course.is_end(stand) and not stand[5] for stand in value]):
         return False
-    follow = {road[1]: True for stand in value for road in course.roads(stand)}
+    follow = {road[1]: True for stand in value for road in course.moves_from(stand)}
     return not _leads_to_end(course, [stand for stand in follow if stand not in inside])
 
 

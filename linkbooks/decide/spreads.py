@@ -22,7 +22,7 @@ class Spread:
     def _followers(self, course, at, most):
         """The numbers of the spots that follow from the one with this number. There may be so many but the start."""
         follow = {}
-        roads = course.roads(self.spots[at])
+        roads = course.moves_from(self.spots[at])
         for road in roads:
             number = self.numbers.get(road[1])
             if number is None:

@@ -59,7 +59,7 @@ def moves(book, kind, stand):
     """The ascending tuple of the moves from a stand."""
     if not is_stand(book, kind, stand):
         raise InvalidOperation("this is no stand")
-    return tuple(sorted([road[:2] for road in Course(book, kind).roads(stand)]))
+    return tuple(sorted([road[:2] for road in Course(book, kind).moves_from(stand)]))
 
 
 def is_final(book, kind, value):

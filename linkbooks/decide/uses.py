@@ -17,7 +17,10 @@ def _moves_between(table):
     """The moves between the stands of a table: triples of the stand, the next one, and the pool."""
     course = Course(table.book, table.kind)
     inside = {stand: True for stand in table.stands}
-    return [(stand, road[1], road[3]) for stand in table.stands for road in course.roads(stand) if road[1] in inside]
+    return [
+        (stand, road[1], road[3])
+        for stand in table.stands for road in course.moves_from(stand) if road[1] in inside
+    ]
 
 
 def _met_lines(table):
