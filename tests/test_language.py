@@ -26,6 +26,7 @@ METHODS = """append clear copy count endswith extend find get index insert isaln
 join keys ljust lower lstrip partition pop remove replace reverse rfind rjust rpartition rsplit rstrip setdefault split
 splitlines startswith strip update upper values zfill bit_length isascii""".split()
 MODULE_LEVEL = (ast.ImportFrom, ast.FunctionDef, ast.ClassDef, ast.Assign)
+PLAIN = (ast.Constant, ast.Tuple, ast.List, ast.Dict, ast.Name, ast.BinOp, ast.UnaryOp, ast.operator, ast.unaryop, ast.expr_context)
 
 
 def files():
@@ -45,6 +46,17 @@ def bound(tree):
     """The names that a file binds at its top, but for imports."""
     names = [node.name for node in tree.body if isinstance(node, (ast.FunctionDef, ast.ClassDef))]
     return names + [node.targets[0].id for node in tree.body if isinstance(node, ast.Assign)]
+
+
+def is_plain(part):
+    """Whether this can be a part of a plain value. Two stars in a dict are a key that is not there."""
+    return isinstance(part, PLAIN) and not (isinstance(part, ast.Dict) and None in part.keys)
+
+
+def not_plain(tree):
+    """The constants at the top of a file that hold no plain value."""
+    constants = [node for node in tree.body if isinstance(node, ast.Assign)]
+    return [node for node in constants if not all(is_plain(part) for part in ast.walk(node.value))]
 
 
 def is_docstring(node):
@@ -79,6 +91,21 @@ class LanguageTest(unittest.TestCase):
                     names.extend(alias.asname or alias.name for alias in node.names)
                 self.assertTrue(is_docstring(node) or isinstance(node, MODULE_LEVEL), (path, ast.dump(node)))
             self.assertEqual(len(names), len(set(names)), path)
+
+    def test_constants_are_plain_values(self):
+        """[L3] No starred value, comprehension, call, index, or anything else that is not written out."""
+        for path, tree in trees():
+            self.assertEqual([(node.lineno, ast.unparse(node)) for node in not_plain(tree)], [], path)
+
+    def test_what_counts_as_a_plain_value(self):
+        wrong = ("""(*LETTERS, "(", "+", ")", "'")""", "*LETTERS, 1", "[*LETTERS]", "[1, *(2, 3)]", "(1, (*LETTERS,))", "{1: [*LETTERS]}",
+                 "{(*LETTERS,): 1}", "{**TABLE}", "{1: 2, **TABLE}", "[{**TABLE}]", "tuple(LETTERS)", "LETTERS[0]", "[k for k in LETTERS]",
+                 "{1, 2}", "1 if LETTERS else 2")
+        right = ("""("A", "B", "C", "(", "+", ")", "'")""", "()", "-1", "10 ** 60", "2 * (MANY + 1)", "True", "None", "b''", '"(*A)"',
+                 "[1, (2, 3)]", "{}", "{1: [told], None: told}", "told")
+        for text in (*wrong, *right):
+            tree = ast.parse(f"FIRST = 1\nSECOND = {text}\ndef told(*rest):\n return (*rest, 1)")
+            self.assertEqual([node.lineno for node in not_plain(tree)], [2] if text in wrong else [], text)
 
     def test_imports_name_the_file_that_defines(self):
         for path, tree in trees():

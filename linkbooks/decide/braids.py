@@ -6,7 +6,7 @@ from linkbooks.decide.readings import ENDED, Reading, all_of, least_reader
 
 LETTERS = ("A", "B", "C")
 
-_SIGNS = (*LETTERS, "(", "+", ")", "'")
+_SIGNS = ("A", "B", "C", "(", "+", ")", "'")
 
 
 def _is_side(sign):
